@@ -1,0 +1,233 @@
+package tests
+
+import (
+	"testing"
+
+	"loop.example/refcountml/impl"
+)
+
+// constant is a constant of the package, and the value that the specification gives it.
+type constant struct {
+	name  string
+	value int
+	want  int
+}
+
+func TestConstants(t *testing.T) {
+	for _, c := range append(limits(), operations()...) {
+		if c.value != c.want {
+			t.Errorf("%s = %d, want %d", c.name, c.value, c.want)
+		}
+	}
+}
+
+// limits returns the constants that are no operations.
+func limits() []constant {
+	return []constant{
+		{"MaxDecls", impl.MaxDecls, 4}, {"MaxCons", impl.MaxCons, 3}, {"MaxFields", impl.MaxFields, 3}, {"MaxFuncs", impl.MaxFuncs, 4},
+		{"MaxParams", impl.MaxParams, 3}, {"MaxNodes", impl.MaxNodes, 30}, {"MaxInt", impl.MaxInt, 999}, {"MaxVars", impl.MaxVars, 99},
+		{"MaxCalls", impl.MaxCalls, 40}, {"MaxSteps", impl.MaxSteps, 600}, {"MaxCode", impl.MaxCode, 2000}, {"MaxTag", impl.MaxTag, 99},
+		{"MaxCount", impl.MaxCount, 999999}, {"MaxRun", impl.MaxRun, 100000}, {"MaxFlags", impl.MaxFlags, 255}, {"MaxLines", impl.MaxLines, 20},
+		{"FlagFold", impl.FlagFold, 1}, {"FlagKnown", impl.FlagKnown, 2}, {"FlagLend", impl.FlagLend, 4}, {"FlagLate", impl.FlagLate, 8},
+		{"FlagCancel", impl.FlagCancel, 16}, {"FlagOpen", impl.FlagOpen, 32}, {"FlagReuse", impl.FlagReuse, 64}, {"FlagTail", impl.FlagTail, 128},
+		{"Done", impl.Done, 0}, {"Spent", impl.Spent, 1}, {"Fault", impl.Fault, 2}, {"Running", impl.Running, 3}, {"PointerBase", impl.PointerBase, 1000},
+	}
+}
+
+// operations returns the operations of expressions, steps and instructions.
+func operations() []constant {
+	return []constant{
+		{"OpInt", impl.OpInt, 0}, {"OpAdd", impl.OpAdd, 1}, {"OpSub", impl.OpSub, 2}, {"OpMul", impl.OpMul, 3}, {"OpLess", impl.OpLess, 4},
+		{"OpPrint", impl.OpPrint, 5}, {"OpCon", impl.OpCon, 6}, {"OpIf", impl.OpIf, 7}, {"OpMatch", impl.OpMatch, 8}, {"OpCall", impl.OpCall, 9},
+		{"OpClose", impl.OpClose, 10}, {"OpApply", impl.OpApply, 11}, {"OpVar", impl.OpVar, 12}, {"OpLet", impl.OpLet, 13}, {"OpDup", impl.OpDup, 14},
+		{"OpDrop", impl.OpDrop, 15}, {"OpOpen", impl.OpOpen, 16}, {"OpReuse", impl.OpReuse, 17}, {"OpMove", impl.OpMove, 18}, {"OpLoad", impl.OpLoad, 19},
+		{"OpBranch", impl.OpBranch, 20}, {"OpSwitch", impl.OpSwitch, 21}, {"OpJump", impl.OpJump, 22}, {"OpReturn", impl.OpReturn, 23}, {"OpTail", impl.OpTail, 24},
+	}
+}
+
+// answers returns, as texts, what all functions of the first three chapters return for some arguments.
+func answers(p impl.Program, vars []int, e impl.Expr) []string {
+	out := []string{
+		text(impl.ValidTypes(p.Decls)), text(impl.ConCount(p.Decls)), text(impl.Inhabited(p.Decls)), text(impl.NodesOf(e)),
+		text(impl.ValidSigs(p)), text(impl.ValidProgram(p)), text(impl.TypeOf(p, vars, e)),
+	}
+	for n := -1; n <= 5; n++ {
+		moved, ok := impl.Shift(e, n, 2)
+		out = append(out,
+			text(impl.ConType(p.Decls, n)), text(impl.ConFields(p.Decls, n)), text(impl.ConsOf(p.Decls, n)), text(impl.ArrowOf(p.Decls, n, 0)),
+			text(impl.CalleesOf(p, n)), text(impl.ReachedFrom(p, n)), text(impl.FreeOf(e, n)), text(impl.MentionsOf(e, n)),
+			text(moved), text(ok), text(impl.UnusedParams(p, n)),
+		)
+	}
+	return out
+}
+
+func TestCallsChangeNothing(t *testing.T) {
+	m := maker{seed: 5}
+	all := append(programs(), badSigs()...)
+	for i, p := range all {
+		vars := []int{0, 1, 2}[:i%4]
+		e := m.raw(i % 5)
+		before := text(p) + text(vars) + text(e)
+		first := answers(p, vars, e)
+		answers(all[(i+7)%len(all)], nil, num(1))
+		if second := answers(p, vars, e); text(second) != text(first) {
+			t.Fatalf("other answers at the second time for %v, %v, %v", p, vars, e)
+		}
+		if text(p)+text(vars)+text(e) != before {
+			t.Fatalf("arguments changed: %s", before)
+		}
+	}
+}
+
+// spoil writes into all numbers of a list, and behind them.
+func spoil(numbers []int) {
+	for i := range numbers {
+		numbers[i] = 77
+	}
+	_ = append(numbers, 77, 77, 77)
+}
+
+func TestAnswersAreNewMemory(t *testing.T) {
+	fields := [][]int{make([]int, 1, 9), make([]int, 2, 9)}
+	decls := make([]impl.Decl, 1, 9)
+	decls[0] = dataOf(fields...)
+	whole := text(fields[0][:9]) + text(fields[1][:9]) + text(decls[:9])
+	for c := 0; c <= 1; c++ {
+		spoil(impl.ConFields(decls, c))
+	}
+	spoil(impl.ConsOf(decls, 1))
+	spoil(impl.Inhabited(decls))
+	if text(fields[0][:9])+text(fields[1][:9])+text(decls[:9]) != whole {
+		t.Error("declarations share memory with an answer")
+	}
+	p := mapProgram()
+	for f := range p.Funcs {
+		params := make([]int, len(p.Funcs[f].Params), 9)
+		copy(params, p.Funcs[f].Params)
+		p.Funcs[f].Params = params
+	}
+	before := text(p)
+	for f := range p.Funcs {
+		spoil(impl.CalleesOf(p, f))
+		spoil(impl.ReachedFrom(p, f))
+		spoil(impl.UnusedParams(p, f))
+		spoil(impl.FreeOf(p.Funcs[f].Body, 9))
+		if extra := p.Funcs[f].Params[:9]; has(extra, 77) {
+			t.Errorf("parameters %v share memory with an answer", extra)
+		}
+	}
+	if text(p) != before || !same(impl.ReachedFrom(p, 0), 0, 1, 2, 3) || !same(impl.CalleesOf(p, 0), 1, 2, 3) || !same(impl.Inhabited(decls), 0, 1) {
+		t.Error("programs share memory with an answer, or answers with each other")
+	}
+}
+
+func TestTypeOfWritesNothingBehindVariables(t *testing.T) {
+	vars := make([]int, 2, 9)
+	vars[1] = 1
+	e := let(v(1), ex(impl.OpMatch, 1, v(2), num(0), v(3)))
+	if of := impl.TypeOf(ruleProgram(), vars, e); of != 0 {
+		t.Errorf("TypeOf = %d", of)
+	}
+	if !same(vars[:9], 0, 1, 0, 0, 0, 0, 0, 0, 0) {
+		t.Errorf("the memory behind the variables is %v", vars[:9])
+	}
+}
+
+// spoilExpr writes into all nodes of an expression below the first one, and behind them.
+func spoilExpr(e impl.Expr) {
+	for i := range e.Kids {
+		spoilExpr(e.Kids[i])
+		e.Kids[i].Num = 77
+	}
+	_ = append(e.Kids, num(77), num(77))
+}
+
+func TestShiftReturnsNewMemory(t *testing.T) {
+	for _, e := range rawExprs() {
+		before := text(e)
+		out, ok := impl.Shift(e, 1, 1)
+		if ok {
+			spoilExpr(out)
+		}
+		if text(e) != before {
+			t.Fatalf("Shift of %s shares memory with it", before)
+		}
+	}
+	kids := make([]impl.Expr, 1, 4)
+	kids[0] = v(3)
+	e := ex(impl.OpPrint, 0)
+	e.Kids = kids
+	both, _ := impl.Shift(add(e, e), 0, 1)
+	both.Kids[0].Kids[0].Num = 77
+	if both.Kids[1].Kids[0].Num != 4 {
+		t.Error("two kids of an answer share memory")
+	}
+	alone, _ := impl.Shift(e, 0, 0)
+	spoilExpr(alone)
+	if text(kids[:4]) != text([]impl.Expr{v(3), {}, {}, {}}) {
+		t.Errorf("the memory behind the kids is %v", kids[:4])
+	}
+}
+
+func TestNilAndEmptyListsAreTheSame(t *testing.T) {
+	p := impl.Program{
+		Decls: []impl.Decl{{Cons: []impl.Con{{Fields: []int{}}}}, {Cons: []impl.Con{}}},
+		Funcs: []impl.Func{{Params: []int{}, Body: impl.Expr{Kids: []impl.Expr{}}}},
+	}
+	q := impl.Program{Decls: []impl.Decl{data(), arrow(0, 0)}, Funcs: []impl.Func{{}}}
+	if !impl.ValidProgram(p) || text(answers(p, []int{}, p.Funcs[0].Body)) != text(answers(q, nil, q.Funcs[0].Body)) {
+		t.Error("empty lists are not nil lists")
+	}
+}
+
+// oddNumbers returns numbers at which sums and indices go wrong.
+func oddNumbers() []int {
+	return []int{-1 << 63, -1<<63 + 1, -1000, -1, 0, 1, 4, 5, 30, 31, 99, 100, 1000, 1 << 62, 1<<63 - 1}
+}
+
+// oddExprs returns expressions that are far from valid ones.
+func oddExprs() []impl.Expr {
+	out := []impl.Expr{endless(), doubled(62), wide(5000), deep(5000)}
+	for _, n := range oddNumbers() {
+		out = append(out, ex(n, 0), ex(n, 0, v(0), v(0)), v(n), num(n))
+		for op := -1; op <= 26; op++ {
+			out = append(out, ex(op, n), ex(op, n, v(n)), ex(op, n, v(0), v(1), v(2)), ex(op, n, endless()))
+		}
+	}
+	return out
+}
+
+// The answers to odd arguments are tested elsewhere: here it counts that there are answers.
+func TestAllFunctionsReturn(t *testing.T) {
+	p := ruleProgram()
+	for _, e := range oddExprs() {
+		impl.NodesOf(e)
+		impl.TypeOf(p, []int{0, 1, 2}, e)
+		impl.ValidProgram(withBody(p, 3, e))
+		impl.CalleesOf(withBodies(p, e), 0)
+		impl.ReachedFrom(withBodies(p, e), 0)
+		impl.UnusedParams(withBodies(p, e), 1)
+		for _, n := range oddNumbers() {
+			impl.FreeOf(e, n)
+			impl.MentionsOf(e, n)
+			impl.Shift(e, n, 1)
+			impl.Shift(e, 1, n)
+		}
+	}
+	for _, n := range oddNumbers() {
+		for _, decls := range append(badDecls(), nil, p.Decls, []impl.Decl{arrow(n, 0)}, []impl.Decl{arrow(0, n)}, []impl.Decl{dataOf([]int{n})}) {
+			impl.ValidTypes(decls)
+			impl.ConType(decls, n)
+			impl.ConFields(decls, n)
+			impl.ConsOf(decls, n)
+			impl.ArrowOf(decls, n, n)
+			impl.Inhabited(decls)
+		}
+		impl.CalleesOf(p, n)
+		impl.ReachedFrom(p, n)
+		impl.UnusedParams(p, n)
+		impl.TypeOf(p, []int{n}, v(0))
+		impl.ValidSigs(impl.Program{Funcs: []impl.Func{{Params: []int{n}, Result: n}}})
+	}
+}
