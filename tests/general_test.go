@@ -1,6 +1,7 @@
 package tests
 
 import (
+	"reflect"
 	"testing"
 
 	"loop.example/refcountml/impl"
@@ -45,19 +46,33 @@ func operations() []constant {
 	}
 }
 
-// answers returns, as texts, what all functions of the first three chapters return for some arguments.
+// answers returns, as texts, what all functions of programs and expressions return for some arguments.
 func answers(p impl.Program, vars []int, e impl.Expr) []string {
+	normal, fine := impl.Normalize(p)
 	out := []string{
 		text(impl.ValidTypes(p.Decls)), text(impl.ConCount(p.Decls)), text(impl.Inhabited(p.Decls)), text(impl.NodesOf(e)),
-		text(impl.ValidSigs(p)), text(impl.ValidProgram(p)), text(impl.TypeOf(p, vars, e)),
+		text(impl.ValidSigs(p)), text(impl.ValidProgram(p)), text(impl.TypeOf(p, vars, e)), text(impl.CallsOf(p)), text(normal), text(fine),
 	}
 	for n := -1; n <= 5; n++ {
 		moved, ok := impl.Shift(e, n, 2)
+		whole, good := impl.Eval(p, n)
+		part, well := impl.EvalExpr(p, e, n)
 		out = append(out,
 			text(impl.ConType(p.Decls, n)), text(impl.ConFields(p.Decls, n)), text(impl.ConsOf(p.Decls, n)), text(impl.ArrowOf(p.Decls, n, 0)),
 			text(impl.CalleesOf(p, n)), text(impl.ReachedFrom(p, n)), text(impl.FreeOf(e, n)), text(impl.MentionsOf(e, n)),
-			text(moved), text(ok), text(impl.UnusedParams(p, n)),
+			text(moved), text(ok), text(impl.UnusedParams(p, n)), text(whole), text(good), text(part), text(well),
 		)
+	}
+	return out
+}
+
+// blockAnswers returns, as texts, what all functions of normal forms and blocks return for some arguments.
+func blockAnswers(n impl.Normal, vars []int, b impl.Block) []string {
+	plain, ok := impl.PlainOf(n)
+	out := []string{text(impl.StepsOf(b)), text(impl.BlockType(n, vars, b)), text(impl.ValidNormal(n)), text(plain), text(ok)}
+	for k := -1; k <= 5; k++ {
+		o, fine := impl.EvalNormal(n, k)
+		out = append(out, text(o), text(fine), text(impl.UsedIn(b, k)), text(impl.UsedFrom(b, 9, k)), text(impl.UsesOf(b, k)), text(impl.LastUse(b, k)))
 	}
 	return out
 }
@@ -76,6 +91,125 @@ func TestCallsChangeNothing(t *testing.T) {
 		}
 		if text(p)+text(vars)+text(e) != before {
 			t.Fatalf("arguments changed: %s", before)
+		}
+	}
+}
+
+func TestCallsOnNormalFormsChangeNothing(t *testing.T) {
+	all := append(normals(), badSignatures()[:5]...)
+	blocks := rawBlocks()[6:]
+	for i, n := range all {
+		vars := []int{0, 1, 2}[:i%4]
+		b := blocks[i%len(blocks)]
+		before := text(n) + text(vars) + text(b)
+		first := blockAnswers(n, vars, b)
+		blockAnswers(all[(i+7)%len(all)], nil, block(0))
+		if second := blockAnswers(n, vars, b); text(second) != text(first) {
+			t.Fatalf("other answers at the second time for %v, %v, %s", n, vars, show(b))
+		}
+		if text(n)+text(vars)+text(b) != before {
+			t.Fatalf("arguments changed: %s", before)
+		}
+	}
+}
+
+// piece is a piece of memory that a list has, with its spare capacity.
+type piece struct {
+	from uintptr
+	to   uintptr
+}
+
+// piecesOf returns the memory of all lists in a value, the one of each list alone.
+func piecesOf(x reflect.Value) []piece {
+	var out []piece
+	switch x.Kind() {
+	case reflect.Struct:
+		for i := range x.NumField() {
+			out = append(out, piecesOf(x.Field(i))...)
+		}
+	case reflect.Slice:
+		if size := uintptr(x.Cap()) * x.Type().Elem().Size(); size > 0 {
+			out = append(out, piece{x.Pointer(), x.Pointer() + size})
+		}
+		for i := range x.Len() {
+			out = append(out, piecesOf(x.Index(i))...)
+		}
+	}
+	return out
+}
+
+// overlap reports whether two lists of an answer share memory, or one of an answer and one of an argument.
+func overlap(answer any, arguments any) bool {
+	mine := piecesOf(reflect.ValueOf(answer))
+	for i, a := range mine {
+		for _, b := range append(mine[i+1:], piecesOf(reflect.ValueOf(arguments))...) {
+			if a.from < b.to && b.from < a.to {
+				return true
+			}
+		}
+	}
+	return false
+}
+
+// A test of memory must see what shares some.
+func TestOverlapsAreFound(t *testing.T) {
+	numbers := make([]int, 3, 8)
+	one := impl.Con{Fields: numbers[:1:1]}
+	two := impl.Con{Fields: numbers[1:2:2]}
+	spare := impl.Con{Fields: numbers[:1]}
+	if overlap(one, two) || overlap([]impl.Con{one, two}, nil) || overlap(impl.Con{}, impl.Con{}) {
+		t.Error("overlaps are found where there are none")
+	}
+	if !overlap(one, one) || !overlap(spare, two) || !overlap([]impl.Con{one, one}, nil) || !overlap([]impl.Con{spare, two}, nil) {
+		t.Error("overlaps are not found")
+	}
+}
+
+func TestNormalFormsAreNewMemory(t *testing.T) {
+	for _, p := range runs() {
+		n, _ := impl.Normalize(p)
+		if overlap(n, p) {
+			t.Fatalf("Normalize(%v) shares memory", p)
+		}
+	}
+	for _, n := range normals() {
+		plain, _ := impl.PlainOf(n)
+		if overlap(plain, n) {
+			t.Fatalf("PlainOf(%v) shares memory", n)
+		}
+	}
+	// Equal parts of an argument that are in the same memory must not be so in the answer.
+	body := ex(impl.OpIf, 0, num(1), num(2), num(3))
+	p := impl.Program{Decls: []impl.Decl{dataOf([]int{0}), dataOf([]int{0})}, Funcs: []impl.Func{{Body: add(body, body)}, {Params: []int{0}, Body: body}, {Body: body}}}
+	p.Decls[1] = p.Decls[0]
+	p.Funcs[2].Params = p.Funcs[1].Params
+	n, _ := impl.Normalize(p)
+	if overlap(n, p) {
+		t.Error("Normalize of a program with parts in the same memory shares memory")
+	}
+	twice := doubledBlock(3)
+	lent := []int{0}
+	n = impl.Normal{Decls: lists(), Routines: []impl.Routine{{Body: block(0, st(impl.OpInt, 1))}, {Params: []int{0}, Body: twice}, {Params: []int{1}, Lent: lent, Result: 1}, {Params: []int{1}, Lent: lent, Result: 1}}}
+	plain, ok := impl.PlainOf(n)
+	if !ok || overlap(plain, n) {
+		t.Error("PlainOf a normal form with parts in the same memory shares memory")
+	}
+}
+
+func TestUsesAndPrintedNumbersAreNewMemory(t *testing.T) {
+	for _, b := range rawBlocks() {
+		first, second := impl.UsedIn(b, 20), impl.UsedFrom(b, 20, 0)
+		if overlap(first, b) || overlap(second, b) || overlap(first, second) {
+			t.Fatalf("UsedIn(%s) shares memory", show(b))
+		}
+	}
+	for _, p := range runs() {
+		n := normalOf(t, p)
+		first, _ := impl.Eval(p, 40)
+		second, _ := impl.Eval(p, 40)
+		third, _ := impl.EvalNormal(n, 40)
+		if overlap([]impl.Outcome{first, second, third}, n) {
+			t.Fatalf("outcomes of %v share memory", p)
 		}
 	}
 }
@@ -179,6 +313,12 @@ func TestNilAndEmptyListsAreTheSame(t *testing.T) {
 	if !impl.ValidProgram(p) || text(answers(p, []int{}, p.Funcs[0].Body)) != text(answers(q, nil, q.Funcs[0].Body)) {
 		t.Error("empty lists are not nil lists")
 	}
+	step := impl.Step{Args: []int{}, Kids: []impl.Block{}}
+	n := impl.Normal{Decls: p.Decls, Routines: []impl.Routine{{Params: []int{}, Lent: []int{}, Body: block(0, step)}}}
+	m := impl.Normal{Decls: q.Decls, Routines: []impl.Routine{{Body: block(0, impl.Step{})}}}
+	if !impl.ValidNormal(n) || text(blockAnswers(n, []int{}, impl.Block{Steps: []impl.Step{}})) != text(blockAnswers(m, nil, impl.Block{})) {
+		t.Error("empty lists of normal forms are not nil lists")
+	}
 }
 
 // oddNumbers returns numbers at which sums and indices go wrong.
@@ -196,6 +336,72 @@ func oddExprs() []impl.Expr {
 		}
 	}
 	return out
+}
+
+// oddBlocks returns blocks that are far from valid ones.
+func oddBlocks() []impl.Block {
+	out := append(tooLong(), block(0, choice(impl.OpDup, 0, 0, endlessBlock())))
+	for _, n := range oddNumbers() {
+		out = append(out, block(n), block(n, st(n, 0)), block(0, st(impl.OpInt, n)))
+		for op := -1; op <= 26; op++ {
+			out = append(out,
+				block(0, st(op, n)), block(2, st(op, n, n)), block(1, st(op, 0, n, n)), block(1, into(st(op, 0), n)), block(3, into(st(op, 1, 0, 1), n)),
+				block(0, choice(op, n, 1, block(n), block(0))), block(0, choice(op, 1, n, block(0), block(n))), block(2, impl.Step{Op: op, Num: n, Kids: []impl.Block{block(n)}}),
+			)
+		}
+	}
+	return out
+}
+
+func TestAllFunctionsOfNormalFormsReturn(t *testing.T) {
+	n := ruleNormal()
+	for _, b := range oddBlocks() {
+		impl.StepsOf(b)
+		impl.BlockType(n, []int{0, 1, 2}, b)
+		for f := range n.Routines {
+			other := withBlock(n, f, b)
+			impl.ValidNormal(other)
+			impl.EvalNormal(other, 40)
+			impl.PlainOf(other)
+		}
+		for _, k := range oddNumbers() {
+			impl.UsedIn(b, k)
+			impl.UsedFrom(b, k, 0)
+			impl.UsedFrom(b, 1, k)
+			impl.UsesOf(b, k)
+			impl.LastUse(b, k)
+		}
+	}
+	for _, k := range oddNumbers() {
+		impl.BlockType(n, []int{k}, block(0))
+		impl.EvalNormal(n, k)
+		impl.ValidNormal(withLent(n, 2, k))
+		impl.ValidNormal(impl.Normal{Routines: []impl.Routine{{Params: []int{k}, Lent: []int{k}, Result: k}}})
+		impl.BlockType(withLent(n, 2, k, k), []int{1}, block(0))
+	}
+}
+
+func TestAllFunctionsOfEvaluationReturn(t *testing.T) {
+	p := ruleProgram()
+	for _, e := range oddExprs() {
+		impl.EvalExpr(p, e, 40)
+		for f := range p.Funcs {
+			other := withBody(p, f, e)
+			impl.Eval(other, 40)
+			impl.CallsOf(other)
+			impl.Normalize(other)
+		}
+	}
+	for _, a := range oddNumbers() {
+		impl.Eval(p, a)
+		impl.EvalExpr(p, num(a), 1)
+		for _, b := range oddNumbers() {
+			for op := -1; op <= 26; op++ {
+				impl.Prim(op, a, b)
+			}
+			impl.Prim(a, b, b)
+		}
+	}
 }
 
 // The answers to odd arguments are tested elsewhere: here it counts that there are answers.

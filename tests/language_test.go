@@ -371,3 +371,77 @@ func TestWaysOfTheFirstStage(t *testing.T) {
 		}
 	}
 }
+
+// declared returns the declarations of a file of impl.
+func declared(t *testing.T, name string) []ast.Decl {
+	t.Helper()
+	file, err := parser.ParseFile(token.NewFileSet(), "../impl/"+name, nil, parser.SkipObjectResolution)
+	if err != nil {
+		t.Fatal(err)
+	}
+	return file.Decls
+}
+
+// receiver returns the name of the type that a function is a method of; "" if it is none.
+func receiver(f *ast.FuncDecl) string {
+	if f.Recv == nil {
+		return ""
+	}
+	return strings.TrimPrefix(types.ExprString(f.Recv.List[0].Type), "*")
+}
+
+// signature is the form of a function: the type that it is a method of, and the types of its parameters and results.
+type signature struct {
+	of     string
+	params string
+	result string
+}
+
+// signaturesIn returns the forms of the functions of a file of impl.
+func signaturesIn(t *testing.T, name string) []signature {
+	t.Helper()
+	var out []signature
+	for _, d := range declared(t, name) {
+		if f, ok := d.(*ast.FuncDecl); ok {
+			out = append(out, signature{of: receiver(f), params: fieldTypes(f.Type.Params), result: fieldTypes(f.Type.Results)})
+		}
+	}
+	return out
+}
+
+// fieldTypes returns the types of parameters or results.
+func fieldTypes(list *ast.FieldList) string {
+	var out []string
+	if list == nil {
+		return ""
+	}
+	for _, field := range list.List {
+		for range max(1, len(field.Names)) {
+			out = append(out, types.ExprString(field.Type))
+		}
+	}
+	return strings.Join(out, ", ")
+}
+
+// hasSignature reports whether a function of a file of impl has a form; the type that it is a method of counts only if it is not "".
+func hasSignature(t *testing.T, name string, want signature) bool {
+	t.Helper()
+	for _, s := range signaturesIn(t, name) {
+		if s.params == want.params && s.result == want.result && (want.of == "" || s.of == want.of) {
+			return true
+		}
+	}
+	return false
+}
+
+func TestWaysOfTheSecondStage(t *testing.T) {
+	if !hasSignature(t, "l4_eval.go", signature{of: "evaluator", params: "[]value, Expr", result: "value"}) {
+		t.Error("expressions are evaluated without an environment of values")
+	}
+	if !hasSignature(t, "l5_normal.go", signature{of: "builder", params: "[]int, Expr", result: "int"}) {
+		t.Error("normal forms are made without a builder with methods")
+	}
+	if !hasSignature(t, "l6_use.go", signature{params: "[]int, []int", result: "[]int"}) {
+		t.Error("uses are found without sets as slices")
+	}
+}
