@@ -77,6 +77,38 @@ func blockAnswers(n impl.Normal, vars []int, b impl.Block) []string {
 	return out
 }
 
+// countAnswers returns, as texts, what all functions that count or check counts return for a normal form.
+func countAnswers(n impl.Normal) []string {
+	counted, fine := impl.Count(n)
+	late, well := impl.CountLate(n)
+	less, good := impl.Cancel(n)
+	out := []string{
+		text(impl.IsPlain(n)), text(counted), text(fine), text(impl.CountsOf(n)), text(impl.Balanced(n)),
+		text(late), text(well), text(less), text(good), text(impl.Saved(n)),
+	}
+	for f := -1; f <= 4; f++ {
+		out = append(out, text(impl.BalancedRoutine(n, f)), text(impl.OwnedAfter(n, f, f)), text(impl.AliveAfter(n, f, 1)))
+	}
+	return out
+}
+
+func TestCountsChangeNothing(t *testing.T) {
+	var all []impl.Normal
+	all = append(append(append(all, plains()...), balancedForms()...), badSignatures()[:5]...)
+	for i := 0; i < len(all); i += 4 {
+		n := all[i]
+		before := text(n)
+		first := countAnswers(n)
+		countAnswers(all[(i+7)%len(all)])
+		if second := countAnswers(n); text(second) != text(first) {
+			t.Fatalf("other answers at the second time for %v", n)
+		}
+		if text(n) != before {
+			t.Fatalf("the argument is changed: %s", before)
+		}
+	}
+}
+
 func TestCallsChangeNothing(t *testing.T) {
 	m := maker{seed: 5}
 	all := append(programs(), badSigs()...)
@@ -214,6 +246,39 @@ func TestUsesAndPrintedNumbersAreNewMemory(t *testing.T) {
 	}
 }
 
+func TestCountedFormsAreNewMemory(t *testing.T) {
+	for _, n := range plains() {
+		counted, late := countedOf(t, n), lateOf(t, n)
+		if overlap([]impl.Normal{counted, late}, n) {
+			t.Fatalf("Count or CountLate(%v) shares memory", n)
+		}
+	}
+	for i, n := range balancedForms() {
+		if i%4 > 0 {
+			continue
+		}
+		if less := cancelOf(t, n); overlap(less, n) {
+			t.Fatalf("Cancel(%v) shares memory", n)
+		}
+		for f := range n.Routines {
+			if overlap([][]int{impl.OwnedAfter(n, f, 0), impl.AliveAfter(n, f, 0), impl.OwnedAfter(n, f, 1), impl.CountsOf(n), impl.CountsOf(n)}, n) {
+				t.Fatalf("the numbers of %v share memory", n)
+			}
+		}
+	}
+	// Equal parts of an argument that are in the same memory must not be so in the answer.
+	lent, params := []int{0}, []int{1, 1}
+	arm, kid := block(0, st(impl.OpInt, 1)), block(2, st(impl.OpCall, 1, 1, 1))
+	arms := block(2, match(1, 1, arm, arm))
+	n := impl.Normal{Decls: lists(), Routines: []impl.Routine{
+		{Body: arm}, {Params: params, Lent: lent, Result: 1, Body: arms}, {Params: params, Lent: lent, Result: 1, Body: arms}, {Params: []int{0, 1}, Result: 1, Body: block(2, if0(0, kid, kid))},
+	}}
+	counted, late := countedOf(t, n), lateOf(t, n)
+	if overlap([]impl.Normal{counted, late, cancelOf(t, counted), cancelOf(t, late)}, n) {
+		t.Error("Count, CountLate or Cancel of a normal form with parts in the same memory shares memory")
+	}
+}
+
 // spoil writes into all numbers of a list, and behind them.
 func spoil(numbers []int) {
 	for i := range numbers {
@@ -319,6 +384,9 @@ func TestNilAndEmptyListsAreTheSame(t *testing.T) {
 	if !impl.ValidNormal(n) || text(blockAnswers(n, []int{}, impl.Block{Steps: []impl.Step{}})) != text(blockAnswers(m, nil, impl.Block{})) {
 		t.Error("empty lists of normal forms are not nil lists")
 	}
+	if !impl.Balanced(n) || text(countAnswers(n)) != text(countAnswers(m)) {
+		t.Error("empty lists of counted normal forms are not nil lists")
+	}
 }
 
 // oddNumbers returns numbers at which sums and indices go wrong.
@@ -378,6 +446,46 @@ func TestAllFunctionsOfNormalFormsReturn(t *testing.T) {
 		impl.ValidNormal(withLent(n, 2, k))
 		impl.ValidNormal(impl.Normal{Routines: []impl.Routine{{Params: []int{k}, Lent: []int{k}, Result: k}}})
 		impl.BlockType(withLent(n, 2, k, k), []int{1}, block(0))
+	}
+}
+
+// countAll calls all functions that count or check counts.
+func countAll(n impl.Normal, f int, k int) {
+	impl.IsPlain(n)
+	impl.Count(n)
+	impl.CountsOf(n)
+	impl.Balanced(n)
+	impl.BalancedRoutine(n, f)
+	impl.OwnedAfter(n, f, k)
+	impl.AliveAfter(n, f, k)
+	impl.CountLate(n)
+	impl.Cancel(n)
+	impl.Saved(n)
+}
+
+func TestAllFunctionsOfCountsReturn(t *testing.T) {
+	n := ruleNormal()
+	for _, b := range oddBlocks() {
+		for f := range n.Routines {
+			countAll(withBlock(n, f, b), f, 1)
+		}
+	}
+	for _, f := range oddNumbers() {
+		for _, k := range oddNumbers() {
+			impl.BalancedRoutine(n, f)
+			impl.OwnedAfter(n, f, k)
+			impl.AliveAfter(n, f, k)
+		}
+		countAll(withLent(n, 2, f), 2, 0)
+		countAll(impl.Normal{Routines: []impl.Routine{{Params: []int{f}, Lent: []int{f}, Result: f}}}, 0, 0)
+	}
+	// All that is valid can be asked for, also where it is far from balanced.
+	for i, other := range normals() {
+		for f := range other.Routines {
+			for k := range other.Routines[f].Body.Steps {
+				countAll(other, f, k+i%2)
+			}
+		}
 	}
 }
 

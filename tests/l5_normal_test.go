@@ -150,6 +150,20 @@ func TestNormalizeOfPrograms(t *testing.T) {
 	}
 }
 
+func TestP47NormalFormsOfProgramsAreValidAndPlain(t *testing.T) {
+	for _, p := range runs() {
+		n := normalOf(t, p)
+		if !impl.ValidNormal(n) || !impl.IsPlain(n) || len(n.Routines) != len(p.Funcs) {
+			t.Fatalf("Normalize(%v) = %v", p, n)
+		}
+		for f, r := range n.Routines {
+			if len(r.Lent) != 0 {
+				t.Fatalf("the routine %d of Normalize(%v) is %v", f, p, r)
+			}
+		}
+	}
+}
+
 // stepNodes counts the nodes of an expression that become steps.
 func stepNodes(e impl.Expr) int {
 	n := 1
@@ -666,14 +680,19 @@ func plainOf(t *testing.T, n impl.Normal) impl.Normal {
 	return plain
 }
 
+// doesTheSame fails if another normal form does not do what a normal form does.
+func doesTheSame(t *testing.T, n impl.Normal, other impl.Normal) {
+	t.Helper()
+	for most := 0; most <= 40; most += 5 {
+		if o, got := executed(t, n, most), executed(t, other, most); text(got) != text(o) {
+			t.Fatalf("EvalNormal(%v, %d) = %v, and of %v it is %v", n, most, o, other, got)
+		}
+	}
+}
+
 func TestP54CountingStepsDoNothing(t *testing.T) {
 	for _, n := range normals() {
-		plain := plainOf(t, n)
-		for most := 0; most <= 40; most += 5 {
-			if o, other := executed(t, n, most), executed(t, plain, most); text(o) != text(other) {
-				t.Fatalf("EvalNormal(%v, %d) = %v, and of its plain form %v", n, most, o, other)
-			}
-		}
+		doesTheSame(t, n, plainOf(t, n))
 	}
 }
 
@@ -709,5 +728,30 @@ func TestPlainOf(t *testing.T) {
 	}
 	if less < 500 {
 		t.Errorf("only %d counting steps are left out", less)
+	}
+}
+
+func TestP55WhatIsPlainStaysSo(t *testing.T) {
+	for _, n := range append(normals(), balancedForms()...) {
+		plain := plainOf(t, n)
+		if !impl.IsPlain(plain) || text(plainOf(t, plain)) != text(plain) {
+			t.Fatalf("PlainOf(%v) = %v", n, plain)
+		}
+	}
+}
+
+func TestP56OnlyCountingStepsAreLeftOut(t *testing.T) {
+	for _, n := range append(normals(), balancedForms()...) {
+		plain := plainOf(t, n)
+		less := 0
+		for _, many := range impl.CountsOf(n) {
+			less += many
+		}
+		for f, r := range n.Routines {
+			less -= impl.StepsOf(r.Body) - impl.StepsOf(plain.Routines[f].Body)
+		}
+		if less != 0 {
+			t.Fatalf("CountsOf(%v) = %v, and PlainOf has other steps less", n, impl.CountsOf(n))
+		}
 	}
 }

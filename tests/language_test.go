@@ -296,8 +296,11 @@ type caller struct {
 func (c *caller) Visit(n ast.Node) ast.Visitor {
 	switch x := n.(type) {
 	case *ast.CallExpr:
-		if id, ok := x.Fun.(*ast.Ident); ok {
-			c.found.names = append(c.found.names, id.Name)
+		switch f := x.Fun.(type) {
+		case *ast.Ident:
+			c.found.names = append(c.found.names, f.Name)
+		case *ast.SelectorExpr:
+			c.found.names = append(c.found.names, f.Sel.Name)
 		}
 	case *ast.ForStmt, *ast.RangeStmt:
 		c.found.loops++
@@ -444,4 +447,40 @@ func TestWaysOfTheSecondStage(t *testing.T) {
 	if !hasSignature(t, "l6_use.go", signature{params: "[]int, []int", result: "[]int"}) {
 		t.Error("uses are found without sets as slices")
 	}
+}
+
+func TestWaysOfTheThirdStage(t *testing.T) {
+	if !hasSignature(t, "l7_count.go", signature{of: "counter", params: "Block, []int", result: "Block"}) || !hasField(t, "l7_count.go", "counter", "owned", "[]int") {
+		t.Error("precise counts are put in without sets of owned variables")
+	}
+	if !hasSignature(t, "l8_balance.go", signature{of: "ledger", params: "Step", result: "bool"}) || !recursive(callsOf(t, "l8_balance.go"), "Balanced", 6) {
+		t.Error("balance is checked without an abstract interpreter")
+	}
+	// The specification suggests maps, which the subset leaves out.
+	if !hasSignature(t, "l9_late.go", signature{params: "[]surplus, int, int", result: "[]surplus"}) {
+		t.Error("late counts are cancelled without numbers of variables")
+	}
+}
+
+// hasField reports whether a type of a file of impl is a struct with a field.
+func hasField(t *testing.T, name string, of string, field string, want string) bool {
+	t.Helper()
+	found := false
+	for _, d := range declared(t, name) {
+		ast.Inspect(d, func(n ast.Node) bool {
+			spec, ok := n.(*ast.TypeSpec)
+			if !ok || spec.Name.Name != of {
+				return true
+			}
+			if s, ok := spec.Type.(*ast.StructType); ok {
+				for _, f := range s.Fields.List {
+					for _, id := range f.Names {
+						found = found || id.Name == field && types.ExprString(f.Type) == want
+					}
+				}
+			}
+			return true
+		})
+	}
+	return found
 }
