@@ -93,11 +93,15 @@ func limitForms() []atLimit {
 }
 
 func TestCountAtTheLimit(t *testing.T) {
+	sizes := make(map[int]bool)
 	for i, c := range limitForms() {
 		if !impl.IsPlain(c.n) {
 			t.Fatalf("the form %d is not plain", i)
 		}
 		want := preciseMeaning(c.n)
+		for _, r := range want.Routines {
+			sizes[stepsIn(r.Body)] = true
+		}
 		n, ok := impl.Count(c.n)
 		if ok == c.tooLong {
 			t.Fatalf("Count of the form %d = %v", i, ok)
@@ -105,6 +109,9 @@ func TestCountAtTheLimit(t *testing.T) {
 		if ok && text(n) != text(want) || !ok && text(n) != text(impl.Normal{}) {
 			t.Errorf("Count of the form %d = %v", i, n)
 		}
+	}
+	if !sizes[600] || !sizes[601] {
+		t.Errorf("the bodies have the sizes %v", sizes)
 	}
 }
 

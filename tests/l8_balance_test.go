@@ -151,6 +151,7 @@ func TestBalanceOfReuse(t *testing.T) {
 		{list, nil, block(1, match(1, 0, block(1, reuse(0), into(con(0), 1)), block(2, open(0)))), true}, {list, nil, block(1, match(1, 0, block(1, reuse(0), con(0)), block(2, open(0)))), false}, {list, nil, block(1, match(1, 0, block(0), block(4, reuse(0), into(con(1, 1, 2), 1), into(con(1, 1, 3), 1)))), false},
 		{list, []int{0}, block(1, match(1, 0, block(0, dup(0)), block(3, reuse(0), into(con(1, 1, 2), 1)))), false}, {list, nil, block(1, reuse(0), con(0)), false}, {list, nil, block(1, match(1, 0, block(0), block(3, reuse(0), into(con(1, 1, 2), 1)))), true},
 		{list, nil, block(1, match(1, 0, block(0), block(4, dup(0), reuse(0), reuse(0), drop(2), into(con(1, 1, 2), 1), into(con(1, 1, 3), 1)))), false},
+		{list, nil, block(1, match(1, 0, block(0), block(3, dup(0), reuse(0), reuse(0), drop(2), into(con(1, 1, 2), 1)))), false}, {list, nil, block(1, match(1, 0, block(0), block(3, dup(0), reuse(0), open(0), drop(2), into(con(1, 1, 2), 1)))), true},
 		{list, nil, block(1, match(1, 0, block(0), block(4, dup(0), reuse(0), into(con(1, 1, 2), 1), reuse(0), drop(3), into(con(1, 1, 2), 1)))), true},
 		{list, nil, block(1, match(1, 0, block(0), block(3, match(1, 0, block(2, reuse(0)), block(2, open(0)))))), false},
 		// A cell is kept beyond the blocks, where all of them keep the same.

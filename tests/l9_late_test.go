@@ -32,8 +32,12 @@ func TestCountLateAgreesWithTheSecondWay(t *testing.T) {
 }
 
 func TestCountLateAtTheLimit(t *testing.T) {
+	sizes := make(map[int]bool)
 	for i, c := range limitForms() {
 		want := lateMeaning(c.n)
+		for _, r := range want.Routines {
+			sizes[stepsIn(r.Body)] = true
+		}
 		n, ok := impl.CountLate(c.n)
 		if ok == c.lateTooLong {
 			t.Fatalf("CountLate of the form %d = %v", i, ok)
@@ -41,6 +45,9 @@ func TestCountLateAtTheLimit(t *testing.T) {
 		if ok && text(n) != text(want) || !ok && text(n) != text(impl.Normal{}) {
 			t.Errorf("CountLate of the form %d = %v", i, n)
 		}
+	}
+	if !sizes[600] || !sizes[601] {
+		t.Errorf("the bodies have the sizes %v", sizes)
 	}
 }
 

@@ -107,7 +107,7 @@ func makeVariants() []variant {
 	var out []variant
 	m := maker{seed: 311}
 	for _, n := range balancedForms() {
-		for try := 0; try < 24; try++ {
+		for try := 0; try < 14; try++ {
 			f := m.pick(len(n.Routines))
 			body := cloneBlock(n.Routines[f].Body)
 			for changes := 1 + m.pick(3); changes > 0; changes-- {
