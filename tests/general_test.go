@@ -86,10 +86,19 @@ func countAnswers(n impl.Normal) []string {
 		text(impl.IsPlain(n)), text(counted), text(fine), text(impl.CountsOf(n)), text(impl.Balanced(n)),
 		text(late), text(well), text(less), text(good), text(impl.Saved(n)),
 	}
+	for _, r := range rewriters() {
+		other, ok := r.of(n)
+		out = append(out, text(other), text(ok))
+	}
 	for f := -1; f <= 4; f++ {
-		out = append(out, text(impl.BalancedRoutine(n, f)), text(impl.OwnedAfter(n, f, f)), text(impl.AliveAfter(n, f, 1)))
+		out = append(out, text(impl.BalancedRoutine(n, f)), text(impl.OwnedAfter(n, f, f)), text(impl.AliveAfter(n, f, 1)), text(impl.KeptAfter(n, f, f)), text(impl.KeptAfter(n, f, 1)))
 	}
 	return out
+}
+
+// rewriters returns the functions that make other normal forms of some.
+func rewriters() []rewriter {
+	return []rewriter{specialize, expand, reusing, borrowing, unlending}
 }
 
 func TestCountsChangeNothing(t *testing.T) {
@@ -261,7 +270,7 @@ func TestCountedFormsAreNewMemory(t *testing.T) {
 			t.Fatalf("Cancel(%v) shares memory", n)
 		}
 		for f := range n.Routines {
-			if overlap([][]int{impl.OwnedAfter(n, f, 0), impl.AliveAfter(n, f, 0), impl.OwnedAfter(n, f, 1), impl.CountsOf(n), impl.CountsOf(n)}, n) {
+			if overlap([][]int{impl.OwnedAfter(n, f, 0), impl.AliveAfter(n, f, 0), impl.OwnedAfter(n, f, 1), impl.KeptAfter(n, f, 0), impl.KeptAfter(n, f, 1), impl.CountsOf(n), impl.CountsOf(n)}, n) {
 				t.Fatalf("the numbers of %v share memory", n)
 			}
 		}
@@ -276,6 +285,41 @@ func TestCountedFormsAreNewMemory(t *testing.T) {
 	counted, late := countedOf(t, n), lateOf(t, n)
 	if overlap([]impl.Normal{counted, late, cancelOf(t, counted), cancelOf(t, late)}, n) {
 		t.Error("Count, CountLate or Cancel of a normal form with parts in the same memory shares memory")
+	}
+}
+
+func TestRewrittenFormsAreNewMemory(t *testing.T) {
+	for _, list := range [][]impl.Normal{plains(), balancedForms(), lendable()} {
+		for i, n := range list {
+			for _, r := range rewriters() {
+				if out, _ := r.of(n); i%3 == 0 && overlap(out, n) {
+					t.Fatalf("%s(%v) shares memory", r.name, n)
+				}
+			}
+		}
+	}
+	// Equal parts of an argument that are in the same memory must not be so in the answer.
+	lent, params, args := []int{1}, []int{1, 1}, []int{0}
+	arm := block(4, impl.Step{Op: impl.OpDup, Args: args}, impl.Step{Op: impl.OpDrop, Args: args}, impl.Step{Op: impl.OpOpen, Args: args}, con(1, 2, 3))
+	empty := block(0)
+	body := block(2, match(1, 0, empty, arm))
+	open := block(2, match(1, 0, empty, block(4, impl.Step{Op: impl.OpOpen, Args: args}, con(1, 2, 3))))
+	plain := block(2, match(1, 0, block(2, con(0)), block(4, con(0))))
+	for _, b := range []impl.Block{body, open, plain} {
+		n := impl.Normal{Decls: lists(), Routines: []impl.Routine{{Body: block(0, one)}, {Params: params, Lent: lent, Result: 1, Body: b}, {Params: params, Lent: lent, Result: 1, Body: b}}}
+		made := 0
+		for _, r := range rewriters() {
+			out, ok := r.of(n)
+			if ok {
+				made++
+			}
+			if overlap(out, n) {
+				t.Errorf("%s of a normal form with parts in the same memory shares memory", r.name)
+			}
+		}
+		if made < 2 {
+			t.Errorf("%v is taken by %d functions", n, made)
+		}
 	}
 }
 
@@ -461,6 +505,10 @@ func countAll(n impl.Normal, f int, k int) {
 	impl.CountLate(n)
 	impl.Cancel(n)
 	impl.Saved(n)
+	for _, r := range rewriters() {
+		r.of(n)
+	}
+	impl.KeptAfter(n, f, k)
 }
 
 func TestAllFunctionsOfCountsReturn(t *testing.T) {
@@ -475,6 +523,7 @@ func TestAllFunctionsOfCountsReturn(t *testing.T) {
 			impl.BalancedRoutine(n, f)
 			impl.OwnedAfter(n, f, k)
 			impl.AliveAfter(n, f, k)
+			impl.KeptAfter(n, f, k)
 		}
 		countAll(withLent(n, 2, f), 2, 0)
 		countAll(impl.Normal{Routines: []impl.Routine{{Params: []int{f}, Lent: []int{f}, Result: f}}}, 0, 0)

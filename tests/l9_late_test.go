@@ -175,7 +175,7 @@ var balancedVariants = sync.OnceValue(makeBalancedVariants)
 // makeBalancedVariants makes them.
 func makeBalancedVariants() []impl.Normal {
 	var out []impl.Normal
-	out = append(out, balancedForms()...)
+	out = append(append(out, balancedForms()...), ruledForms()...)
 	for _, x := range variants() {
 		if impl.Balanced(x.n) {
 			out = append(out, x.n)

@@ -462,6 +462,38 @@ func TestWaysOfTheThirdStage(t *testing.T) {
 	}
 }
 
+func TestWaysOfTheFourthStage(t *testing.T) {
+	if !hasSignature(t, "l10_open.go", signature{params: "arm, []Step", result: "[]Step"}) {
+		t.Error("values are taken apart without rewriting the steps with which blocks begin")
+	}
+	if !hasSignature(t, "l11_reuse.go", signature{params: "[]Step, int", result: "int"}) {
+		t.Error("cells are reused without a search in a slice of steps")
+	}
+	if !loopsAsLongAs(t, "l12_lend.go", "Borrow") {
+		t.Error("parameters are lent without an iteration to a fixed point")
+	}
+}
+
+// loopsAsLongAs reports whether a function of a file of impl has a loop that goes on as long as a single variable is true.
+func loopsAsLongAs(t *testing.T, name string, function string) bool {
+	t.Helper()
+	found := false
+	for _, d := range declared(t, name) {
+		f, ok := d.(*ast.FuncDecl)
+		if !ok || f.Name.Name != function {
+			continue
+		}
+		ast.Inspect(f, func(n ast.Node) bool {
+			if loop, ok := n.(*ast.ForStmt); ok {
+				_, alone := loop.Cond.(*ast.Ident)
+				found = found || alone
+			}
+			return true
+		})
+	}
+	return found
+}
+
 // hasField reports whether a type of a file of impl is a struct with a field.
 func hasField(t *testing.T, name string, of string, field string, want string) bool {
 	t.Helper()
