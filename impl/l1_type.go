@@ -212,6 +212,15 @@ func copyInts(list []int) []int {
 	return out
 }
 
+// joinedInts returns a list with further numbers appended to it.
+func joinedInts(list []int, further []int) []int {
+	out := list
+	for _, n := range further {
+		out = append(out, n)
+	}
+	return out
+}
+
 // sameInts reports whether two lists have the same numbers in the same order.
 func sameInts(a []int, b []int) bool {
 	if len(a) != len(b) {
