@@ -28,17 +28,17 @@ func MentionsOf(e Expr, v int) int {
 	if NodesOf(e) < 0 {
 		return -1
 	}
-	return mentionsIn(e, v)
+	return nodesWith(e, OpVar, v)
 }
 
-// mentionsIn returns how often an expression that is not too large mentions a variable.
-func mentionsIn(e Expr, v int) int {
+// nodesWith returns how many nodes of an expression that is not too large have an operation and a number.
+func nodesWith(e Expr, op int, num int) int {
 	n := 0
-	if e.Op == OpVar && e.Num == v {
+	if e.Op == op && e.Num == num {
 		n = 1
 	}
 	for _, kid := range e.Kids {
-		n += mentionsIn(kid, v)
+		n += nodesWith(kid, op, num)
 	}
 	return n
 }
@@ -81,6 +81,17 @@ func shifted(e Expr, at int, by int) Expr {
 	return out
 }
 
+// boundIn returns how many variables a node of a valid program binds in one of its kids.
+func boundIn(decls []Decl, e Expr, k int) int {
+	switch {
+	case e.Op == OpLet && k == 1:
+		return 1
+	case e.Op == OpMatch && k > 0:
+		return len(decls[e.Num-1].Cons[k-1].Fields)
+	}
+	return 0
+}
+
 // UnusedParams returns the parameters that a function does not mention.
 func UnusedParams(p Program, f int) []int {
 	if !ValidProgram(p) || !hasFunc(p, f) {
@@ -88,7 +99,7 @@ func UnusedParams(p Program, f int) []int {
 	}
 	var out []int
 	for v := range p.Funcs[f].Params {
-		if mentionsIn(p.Funcs[f].Body, v) == 0 {
+		if nodesWith(p.Funcs[f].Body, OpVar, v) == 0 {
 			out = append(out, v)
 		}
 	}
