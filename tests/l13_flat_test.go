@@ -798,6 +798,38 @@ func TestP119AllLastCallsBecomeTailCallsAtOnce(t *testing.T) {
 	}
 }
 
+func TestP120TailCallsDoWhatCallsDo(t *testing.T) {
+	done, spent := 0, 0
+	for i, im := range verifiedImages() {
+		tail := tailed(t, im)
+		if countOps(tail, impl.OpTail) == countOps(im, impl.OpTail) {
+			continue
+		}
+		for _, most := range []int{0, 1, 2, 3 + i%37, 40} {
+			got, want := ran(t, tail, most), ran(t, im, most)
+			if text(got) != text(want) {
+				t.Fatalf("Execute of TailCalls(%v) with %d calls = %v, want %v", im, most, got, want)
+			}
+			if got.Status == impl.Done {
+				done++
+			} else {
+				spent++
+			}
+		}
+	}
+	if done < 1000 || spent < 1000 {
+		t.Errorf("%d runs with tail calls end, and %d are cut off", done, spent)
+	}
+	// An image that is not verified may do something else: here something is owned when the call begins.
+	im := imageOf(conTo(1, 0), callTo(2, 2, 1), move(0, 2), back(0))
+	im.Procs[3].Params, im.Procs[3].Result = nil, 0
+	im.Procs[0].Code = []impl.Instr{conTo(1, 0), callTo(0, 0), back(0)}
+	tail := tailed(t, im)
+	if impl.Verified(im) || text(ran(t, tail, 40)) == text(ran(t, im, 40)) {
+		t.Errorf("Execute of TailCalls = %v", ran(t, tail, 40))
+	}
+}
+
 func TestP121ReachedCodeGoesOn(t *testing.T) {
 	eachCode(func(im impl.Image, f int, code []impl.Instr) {
 		reached := impl.ReachedCode(im, f)

@@ -272,3 +272,31 @@ func TestP168CellsThatAreNotSharedAreReused(t *testing.T) {
 		t.Errorf("%d cells that are not shared are reused, and %d instructions take no kept cell", taken, shared)
 	}
 }
+
+func TestP169TailCallsNeedFewerFrames(t *testing.T) {
+	depth, steps, kept := 0, 0, 0
+	for i, im := range verifiedImages() {
+		tail := tailed(t, im)
+		for _, most := range []int{0, 2, 3 + i%37, 40} {
+			a, b := statsOf(t, tail, most), statsOf(t, im, most)
+			if a.Steps > b.Steps || a.Depth > b.Depth {
+				t.Fatalf("StatsOf TailCalls(%v) with %d calls = %+v, and without tail calls %+v", im, most, a, b)
+			}
+			if a.Depth < b.Depth {
+				depth++
+			}
+			if a.Steps < b.Steps {
+				steps++
+			}
+			if b.Reuses > 0 || b.Dups > 0 && b.Drops > 0 {
+				kept++
+			}
+			if a.Steps, a.Depth = b.Steps, b.Depth; a != b {
+				t.Fatalf("StatsOf TailCalls(%v) with %d calls = %+v, and without tail calls %+v", im, most, a, b)
+			}
+		}
+	}
+	if depth < 500 || steps < 500 || kept < 500 {
+		t.Errorf("%d runs have fewer frames, %d have fewer steps, and %d count or reuse cells", depth, steps, kept)
+	}
+}

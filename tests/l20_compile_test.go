@@ -331,6 +331,24 @@ func TestP184CompilingSucceeds(t *testing.T) {
 	}
 }
 
+func TestP185CompiledImagesAreVerified(t *testing.T) {
+	tails, reused, lent := 0, 0, 0
+	eachCompiled(t, func(p impl.Program, flags int, n impl.Normal) {
+		im, ok := impl.Compile(p, flags)
+		if !ok || !impl.Verified(im) {
+			t.Fatalf("Compile(%v, %d) = %v, %v", p, flags, im, ok)
+		}
+		tails += countOps(im, impl.OpTail)
+		reused += countOps(im, impl.OpReuse)
+		for _, one := range im.Procs {
+			lent += len(one.Lent)
+		}
+	})
+	if tails < 300 || reused < 100 || lent < 300 {
+		t.Errorf("there are %d tail calls, %d cells that are kept, and %d parameters that are lent", tails, reused, lent)
+	}
+}
+
 func TestP186WhatEndsLeavesNothing(t *testing.T) {
 	ended, never := 0, 0
 	eachCompiled(t, func(p impl.Program, flags int, n impl.Normal) {

@@ -128,3 +128,116 @@ func TestTextsOfTestsAreReadBack(t *testing.T) {
 		}
 	}
 }
+
+// readMeaning returns the expression of which some text is the text, and true; false if there is none.
+// It reads loosely and then compares texts; what cannot be read is found by what it panics with.
+func readMeaning(s string) (e impl.Expr, ok bool) {
+	defer func() {
+		if recover() != nil {
+			e, ok = impl.Expr{}, false
+		}
+	}()
+	if strings.Count(s, "(")+strings.Count(s, " ") > 100 {
+		return impl.Expr{}, false
+	}
+	if e = parsed(s); !mayShow(e) || shown(e) != s {
+		return impl.Expr{}, false
+	}
+	return e, true
+}
+
+// shownNumbers returns the text of a list of numbers.
+func shownNumbers(list []int) string {
+	return "(" + strings.Trim(strings.ReplaceAll(fmt.Sprint(list), " ", ","), "[]") + ")"
+}
+
+// shownProgram returns the text of a valid program.
+func shownProgram(p impl.Program) string {
+	var out strings.Builder
+	for _, d := range p.Decls {
+		if len(d.Cons) == 0 {
+			fmt.Fprintf(&out, "arrow %d %d", d.From, d.To)
+		} else {
+			out.WriteString("data")
+		}
+		for _, c := range d.Cons {
+			out.WriteString(" " + shownNumbers(c.Fields))
+		}
+		out.WriteString("\n")
+	}
+	for _, f := range p.Funcs {
+		fmt.Fprintf(&out, "fun %s %d %s\n", shownNumbers(f.Params), f.Result, shown(f.Body))
+	}
+	return out.String()
+}
+
+// numbersIn returns the numbers of the text of a list.
+func numbersIn(s string) []int {
+	var out []int
+	for _, word := range strings.FieldsFunc(strings.Trim(s, "()"), func(r rune) bool { return r == ',' }) {
+		out = append(out, numberOf(word))
+	}
+	return out
+}
+
+// programMeaning returns the valid program of which some text is the text, and true; false if there is none.
+func programMeaning(s string) (p impl.Program, ok bool) {
+	defer func() {
+		if recover() != nil {
+			p, ok = impl.Program{}, false
+		}
+	}()
+	for _, l := range strings.Split(strings.TrimSuffix(s, "\n"), "\n") {
+		words := strings.Split(l, " ")
+		switch words[0] {
+		case "data":
+			var d impl.Decl
+			for _, word := range words[1:] {
+				d.Cons = append(d.Cons, impl.Con{Fields: numbersIn(word)})
+			}
+			p.Decls = append(p.Decls, d)
+		case "arrow":
+			p.Decls = append(p.Decls, arrow(numberOf(words[1]), numberOf(words[2])))
+		default:
+			p.Funcs = append(p.Funcs, impl.Func{Params: numbersIn(words[1]), Result: numberOf(words[2]), Body: parsed(strings.Join(words[3:], " "))})
+		}
+	}
+	if !impl.ValidProgram(p) || shownProgram(p) != s {
+		return impl.Program{}, false
+	}
+	return p, true
+}
+
+// spoiltText returns a text with a change, which may leave it well formed.
+func (m *maker) spoiltText(s string) string {
+	bytes := "() -,\nv0123456789adfunlewcompi\x00\xff"
+	at := m.pick(len(s) + 1)
+	one := string(bytes[m.pick(len(bytes))])
+	switch m.pick(7) {
+	case 0:
+		return s[:at] + one + s[at:]
+	case 1:
+		return s[:at]
+	case 2:
+		return s[at:]
+	case 3:
+		if at < len(s) {
+			return s[:at] + s[at+1:]
+		}
+	case 4:
+		if at < len(s) {
+			return s[:at] + one + s[at+1:]
+		}
+	case 5:
+		// A digit for a digit leaves the form as it is.
+		for i := at; i < len(s); i++ {
+			if s[i] >= '0' && s[i] <= '9' {
+				return s[:i] + string(bytes[8+m.pick(10)]) + s[i+1:]
+			}
+		}
+	case 6:
+		to := at + m.pick(min(9, len(s)-at+1))
+		return s[:to] + s[at:]
+	}
+	return s + one
+}
